@@ -1,0 +1,1 @@
+"""Leadlight: a window of leads and glass."""

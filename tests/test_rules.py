@@ -1,0 +1,67 @@
+"""Those rules for the package's files that are easily looked up in their text."""
+
+import ast
+import pathlib
+import re
+import unittest
+
+PACKAGE = pathlib.Path(__file__).resolve().parent.parent / "leadlight"
+FILES = sorted(PACKAGE.glob("**/*.py"))
+
+# L17: words that stand nowhere, not even in comments.
+BARRED = (
+    "type typing typing_extensions enum Enum IntEnum StrEnum Flag IntFlag Generic Protocol ABC "
+    "ABCMeta namedtuple NamedTuple TypedDict TYPE_CHECKING abstractmethod"
+).split()
+
+AT_TOP = (ast.Expr, ast.ImportFrom, ast.FunctionDef, ast.ClassDef, ast.Assign)
+
+
+def trees():
+    return [ast.parse(file.read_text(encoding="utf-8"), file.name) for file in FILES]
+
+
+class Rules(unittest.TestCase):
+    def test_the_package_is_there(self):
+        self.assertIn("__init__.py", [file.name for file in FILES])
+
+    def test_nothing_but_plainly_named_files(self):
+        for path in PACKAGE.iterdir():
+            if path.name != "__pycache__":
+                self.assertRegex(path.name, r"\A[a-z0-9_]+\.py\Z")
+
+    def test_signs_and_lengths(self):
+        for file in FILES:
+            text = file.read_text(encoding="utf-8")
+            self.assertRegex(text, r"\A[ -~\n]*\Z")
+            self.assertLessEqual(len(text.splitlines()), 400)
+            self.assertLessEqual(max(map(len, text.splitlines())), 120)
+
+    def test_barred_words(self):
+        for file in FILES:
+            text = file.read_text(encoding="utf-8")
+            self.assertEqual([word for word in BARRED if re.search(rf"\b{word}\b", text)], [])
+            self.assertIsNone(re.search("dataclass|overload|contextmanager", text))
+
+    def test_what_stands_at_module_level(self):
+        for tree in trees():
+            for row in tree.body:
+                self.assertIsInstance(row, AT_TOP)
+
+    def test_imports(self):
+        for tree in trees():
+            for row in ast.walk(tree):
+                self.assertNotIsInstance(row, ast.Import)
+                if isinstance(row, ast.ImportFrom):
+                    self.assertEqual(row.level, 0)
+                    self.assertRegex(row.module, r"\Aleadlight\.[a-z]+\Z")
+
+    def test_functions(self):
+        for tree in trees():
+            for row in ast.walk(tree):
+                if isinstance(row, ast.FunctionDef):
+                    self.assertLessEqual(row.end_lineno - row.lineno + 1, 40)
+
+
+if __name__ == "__main__":
+    unittest.main()
