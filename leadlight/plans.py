@@ -23,9 +23,19 @@ def place_of(plan, quarter):
     return (cell % width, cell // width, quarter % 4)
 
 
+def quarter_at(plan, x, y, part):
+    """The number of a quarter of the cell (x, y)."""
+    return 4 * (y * plan[0] + x) + part
+
+
 def leads_of(plan):
     """All leads that lie there, the frame's too, rising."""
     return sorted(list(plan[2]) + frame(plan[0], plan[1]))
+
+
+def lying(plan):
+    """All leads that lie there, the frame's too, to look names up in."""
+    return {name: True for name in leads_of(plan)}
 
 
 def free_leads(plan):

@@ -1,6 +1,6 @@
 """Points, turns, and the leads of a board."""
 
-from leadlight.errors import BadSize, BadTurn
+from leadlight.errors import BadPoint, BadSize, BadTurn
 
 LARGEST = 9
 
@@ -26,6 +26,11 @@ def check_size(width, height):
 def is_point(width, height, x, y):
     """Whether a point is on the board."""
     return 0 <= x <= width and 0 <= y <= height
+
+
+def check_point(width, height, x, y):
+    if not is_point(width, height, x, y):
+        raise BadPoint("the board has no such point")
 
 
 def back(turn):

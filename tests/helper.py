@@ -1,5 +1,7 @@
 """What several tests use."""
 
+import copy
+import random
 import unittest
 
 GREAT = 10**60 - 1
@@ -10,6 +12,213 @@ VERY_GREAT = (GREAT, -GREAT, 10**5000, -(10**5000))
 SIZES = tuple((width, height) for width in range(1, 10) for height in range(1, 10))
 BAD_SIDES = (0, -1, -9, 10, 11) + VERY_GREAT
 
+# The turns as the document tells them: right, right and down, down, and so on.
+MOVES = {
+    0: (1, 0), 1: (1, 1), 2: (0, 1), 3: (-1, 1),
+    4: (-1, 0), 5: (-1, -1), 6: (0, -1), 7: (1, -1),
+}
+OPPOSITE = {0: 4, 1: 5, 2: 6, 3: 7, 4: 0, 5: 1, 6: 2, 7: 3}
+
+BAD_TURNS = (-1, -2, -4, -7, -8, -9, 8, 9, 12, 15, 16) + VERY_GREAT
+
+
+def rim_of(width, height):
+    found = [(x, y, 0) for x in range(width) for y in (0, height)]
+    return found + [(x, y, 2) for x in (0, width) for y in range(height)]
+
+
+def within_of(width, height):
+    """The leads that a board can have within, in no order that matters."""
+    found = [(x, y, 0) for x in range(width) for y in range(1, height)]
+    found += [(x, y, 2) for x in range(1, width) for y in range(height)]
+    found += [(x, y, 1) for x in range(width) for y in range(height)]
+    return found + [(x + 1, y, 3) for x in range(width) for y in range(height)]
+
+
+def cell_of(name):
+    """The cell that a slant goes through, None for other leads."""
+    x, y, turn = name
+    return {1: (x, y), 3: (x - 1, y)}.get(turn)
+
+
+def plan_of(width, height, within):
+    return (width, height, tuple(sorted(within)), (0,) * (4 * width * height))
+
+
+def drawn(*rows):
+    """The plan without glass that a drawing of point [19] shows."""
+    found = []
+    for at, row in enumerate(rows):
+        for place, sign in enumerate(row):
+            x, y = place // 2, at // 2
+            if sign in "-|\\/":
+                found.append((x + 1, y, 3) if sign == "/" else (x, y, "-\\|".index(sign)))
+    width, height = len(rows[0]) // 2, len(rows) // 2
+    return plan_of(width, height, set(found) - set(rim_of(width, height)))
+
+
+def not_crossing(names):
+    """These leads without those that lie over one further ahead."""
+    found, cells = [], set()
+    for name in names:
+        if cell_of(name) is None or cell_of(name) not in cells:
+            found.append(name)
+            cells.add(cell_of(name))
+    return found
+
+
+def some_leads(width, height, every):
+    """Each so-many-th lead within, slants of both turns among them, none over another."""
+    return not_crossing(sorted(within_of(width, height))[::every])
+
+
+def good_plans():
+    """Boards of all sizes with no leads within, some, and as many as can lie there."""
+    for width, height in SIZES:
+        yield plan_of(width, height, [])
+        for every in (1, 2, 3, 7):
+            yield plan_of(width, height, some_leads(width, height, every))
+
+
+def mixed(width, height, share, seed, turns=(0, 1, 2, 3)):
+    """A plan with about so many hundredths of the leads by these turns, always the same."""
+    chance = random.Random(seed)
+    names = [name for name in sorted(within_of(width, height)) if name[2] in turns]
+    # Only `random` gives the same numbers in all versions of Python.
+    ranks = {name: chance.random() for name in names}
+    kept = sorted([name for name in names if ranks[name] * 100 < share], key=ranks.get)
+    return plan_of(width, height, not_crossing(kept))
+
+
+MIXED_SIZES = (
+    (1, 1), (1, 9), (9, 1), (2, 2), (2, 3), (3, 2), (4, 4),
+    (5, 3), (3, 6), (7, 7), (9, 8), (8, 9), (9, 9),
+)
+
+
+def mixed_plans():
+    """Plans along sides, slantwise, of both, with few leads and with very many."""
+    for seed, (width, height) in enumerate(MIXED_SIZES):
+        yield plan_of(width, height, [])
+        for share in (12, 35, 60, 85, 100):
+            for turns in ((0, 1, 2, 3), (0, 2), (1, 3)):
+                yield mixed(width, height, share, seed, turns)
+    yield from BY_HAND
+
+
+# A ring that stands free, and in it a lead that stands free.
+NESTED = drawn(
+    "+-+-+-+-+-+",
+    "|         |",
+    "+ +-+-+-+ +",
+    "| |     | |",
+    "+ + +-+ + +",
+    "| |     | |",
+    "+ + . . + +",
+    "| |     | |",
+    "+ +-+-+-+ +",
+    "|         |",
+    "+-+-+-+-+-+",
+)
+
+# Slants alone, which cut off the corners.
+DIAMOND = drawn(
+    "+-+-+",
+    "|/ \\|",
+    "+ . +",
+    "|\\ /|",
+    "+-+-+",
+)
+
+# A lead that hangs from the frame, a free cross of slants, and leads right across.
+CROSS = drawn(
+    "+-+-+-+-+-+",
+    "| |       |",
+    "+ + + . + +",
+    "|    \\ /  |",
+    "+ . . + . +",
+    "|    / \\  |",
+    "+ . + . + +",
+    "|         |",
+    "+-+-+-+-+-+",
+    "|         |",
+    "+-+-+-+-+-+",
+)
+
+BY_HAND = (NESTED, DIAMOND, CROSS)
+
+
+class Raster:
+    """A plan drawn on finer squares, four for a cell's side, and filled there.
+
+    Leads are rows of squares, and one goes from square to square over sides alone,
+    so that slants are as tight as other leads.
+    """
+
+    def __init__(self, plan):
+        self.width, self.height, within, glass = plan
+        self.leads = sorted(rim_of(self.width, self.height) + list(within))
+        walls = set()
+        for x, y, turn in self.leads:
+            right, down = MOVES[turn]
+            walls |= {(4 * x + many * right, 4 * y + many * down) for many in range(5)}
+        self.panes = dict.fromkeys(walls)
+        self.names = []
+        for quarter in range(4 * self.width * self.height):
+            square = self.square(quarter)
+            if square not in self.panes:
+                self.fill(square, quarter)
+            self.names.append(self.panes[square])
+
+    def square(self, quarter):
+        """A square that is in a quarter and on no lead."""
+        cell, part = divmod(quarter, 4)
+        right, down = ((2, 1), (3, 2), (2, 3), (1, 2))[part]
+        return (4 * (cell % self.width) + right, 4 * (cell // self.width) + down)
+
+    def fill(self, square, pane):
+        waiting = [square]
+        while waiting:
+            x, y = waiting.pop()
+            if (x, y) not in self.panes:
+                self.panes[x, y] = pane
+                waiting += [(x + 1, y), (x - 1, y), (x, y + 1), (x, y - 1)]
+
+    def left(self, x, y, turn):
+        """What is beside the middle of a lead, to the left of who goes along it."""
+        right, down = MOVES[turn]
+        beside = (4 * x + 2 * right + down, 4 * y + 2 * down - right)
+        return self.panes.get(beside, -1)
+
+    def sides(self, name):
+        x, y, turn = name
+        right, down = MOVES[turn]
+        return (self.left(x, y, turn), self.left(x + right, y + down, OPPOSITE[turn]))
+
+    def both_ways(self):
+        """All sides along leads, each lead both ways."""
+        for x, y, turn in self.leads:
+            right, down = MOVES[turn]
+            yield (x, y, turn)
+            yield (x + right, y + down, OPPOSITE[turn])
+
+
+def spoil(told):
+    """Changes all lists and dicts in something told."""
+    if isinstance(told, dict):
+        for one in told.values():
+            spoil(one)
+        told.clear()
+        told["spoilt"] = True
+    elif isinstance(told, list):
+        for one in told:
+            spoil(one)
+        told.reverse()
+        told.append("spoilt")
+    elif isinstance(told, tuple):
+        for one in told:
+            spoil(one)
+
 
 class Refusals(unittest.TestCase):
     def refused(self, kind, asked, *places, **names):
@@ -18,5 +227,22 @@ class Refusals(unittest.TestCase):
             asked(*places, **names)
         except Exception as error:
             self.assertIs(type(error), kind)
-        else:
-            self.fail("nothing was refused")
+            return error
+        self.fail("nothing was refused")
+
+    def refused_at(self, at, kind, asked, *places, **names):
+        """That just this class is raised, with this in its field `at`."""
+        self.assertEqual(self.refused(kind, asked, *places, **names).at, at)
+
+    def same(self, told, right):
+        """That it is the same, also where tuples are tuples and lists are lists."""
+        self.assertEqual(told, right)
+        self.assertEqual(repr(told), repr(right))
+
+    def told_anew(self, asked, *places):
+        """That what was told can be changed, and is told again as it was."""
+        told = asked(*places)
+        kept = copy.deepcopy(told)
+        spoil(told)
+        self.assertNotEqual(told, kept)
+        self.same(asked(*places), kept)

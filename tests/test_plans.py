@@ -2,56 +2,18 @@
 
 import unittest
 
-from helper import BAD_SIDES, GREAT, SIZES, VERY_GREAT, Refusals
+from helper import (
+    BAD_SIDES, GREAT, SIZES, VERY_GREAT, Refusals,
+    cell_of, good_plans, plan_of, rim_of, some_leads, within_of,
+)
 from leadlight.errors import BadQuarter, BadSize
 from leadlight.plans import bare, free_leads, is_plan, leads_of, place_of
-
-
-def rim_of(width, height):
-    found = [(x, y, 0) for x in range(width) for y in (0, height)]
-    return found + [(x, y, 2) for x in (0, width) for y in range(height)]
-
-
-def within_of(width, height):
-    """The leads that a board can have within, in no order that matters."""
-    found = [(x, y, 0) for x in range(width) for y in range(1, height)]
-    found += [(x, y, 2) for x in range(1, width) for y in range(height)]
-    found += [(x, y, 1) for x in range(width) for y in range(height)]
-    return found + [(x + 1, y, 3) for x in range(width) for y in range(height)]
-
-
-def cell_of(name):
-    """The cell that a slant goes through, None for other leads."""
-    x, y, turn = name
-    return {1: (x, y), 3: (x - 1, y)}.get(turn)
 
 
 def free_by_hand(width, height, within):
     cells = {cell_of(name) for name in within} - {None}
     left = set(within_of(width, height)) - set(within)
     return sorted(name for name in left if cell_of(name) not in cells)
-
-
-def plan_of(width, height, within):
-    return (width, height, tuple(sorted(within)), (0,) * (4 * width * height))
-
-
-def some_leads(width, height, every):
-    """Each so-many-th lead within, slants of both turns among them, none over another."""
-    found = []
-    for name in sorted(within_of(width, height))[::every]:
-        taken = [cell_of(one) for one in found if cell_of(one)]
-        if cell_of(name) not in taken:
-            found.append(name)
-    return found
-
-
-def good_plans():
-    """Boards of all sizes with no leads within, some, and as many as can lie there."""
-    for width, height in SIZES:
-        yield plan_of(width, height, [])
-        for every in (1, 2, 3, 7):
-            yield plan_of(width, height, some_leads(width, height, every))
 
 
 class Bare(Refusals):

@@ -2,18 +2,9 @@
 
 import unittest
 
-from helper import BAD_SIDES, GREAT, SIZES, VERY_GREAT, Refusals
+from helper import BAD_SIDES, BAD_TURNS, GREAT, MOVES, OPPOSITE, SIZES, Refusals
 from leadlight.errors import BadSize, BadTurn
 from leadlight.points import all_leads, back, ends, frame, is_frame, lead, over, step
-
-# The turns as the document tells them: right, right and down, down, and so on.
-MOVES = {
-    0: (1, 0), 1: (1, 1), 2: (0, 1), 3: (-1, 1),
-    4: (-1, 0), 5: (-1, -1), 6: (0, -1), 7: (1, -1),
-}
-OPPOSITE = {0: 4, 1: 5, 2: 6, 3: 7, 4: 0, 5: 1, 6: 2, 7: 3}
-
-BAD_TURNS = (-1, -2, -4, -7, -8, -9, 8, 9, 12, 15, 16) + VERY_GREAT
 
 POINTS = (
     (0, 0), (1, 0), (0, 1), (3, 7), (-1, -1), (-4, 6), (9, 9),

@@ -1,6 +1,7 @@
 """Those rules for the package's files that are easily looked up in their text."""
 
 import ast
+import builtins
 import pathlib
 import re
 import unittest
@@ -14,11 +15,41 @@ BARRED = (
     "ABCMeta namedtuple NamedTuple TypedDict TYPE_CHECKING abstractmethod"
 ).split()
 
+# L8: the builtins that may be called, but for those that only __main__.py may.
+CALLED = (
+    "len range enumerate zip min max sum abs sorted reversed int str bool list tuple dict set "
+    "frozenset isinstance ord repr any all divmod iter next Exception ValueError TypeError "
+    "KeyError IndexError LookupError ZeroDivisionError ArithmeticError OverflowError "
+    "RuntimeError NotImplementedError"
+).split()
+
 AT_TOP = (ast.Expr, ast.ImportFrom, ast.FunctionDef, ast.ClassDef, ast.Assign)
 
 
 def trees():
     return [ast.parse(file.read_text(encoding="utf-8"), file.name) for file in FILES]
+
+
+def imported(tree):
+    """The modules of the package that a file imports from."""
+    rows = [row for row in ast.walk(tree) if isinstance(row, ast.ImportFrom)]
+    return {row.module.removeprefix("leadlight.") for row in rows}
+
+
+def fixed_names(tree):
+    """What a file imports and the classes it has."""
+    found = {row.name for row in ast.walk(tree) if isinstance(row, ast.ClassDef)}
+    for row in ast.walk(tree):
+        if isinstance(row, ast.ImportFrom):
+            found |= {one.asname or one.name for one in row.names}
+    return found
+
+
+def bound_names(tree):
+    """All names that a file's assignments, loops and parameters bind."""
+    found = {row.arg for row in ast.walk(tree) if isinstance(row, ast.arg)}
+    stored = [row for row in ast.walk(tree) if isinstance(row, ast.Name)]
+    return found | {row.id for row in stored if isinstance(row.ctx, ast.Store)}
 
 
 class Rules(unittest.TestCase):
@@ -55,6 +86,25 @@ class Rules(unittest.TestCase):
                 if isinstance(row, ast.ImportFrom):
                     self.assertEqual(row.level, 0)
                     self.assertRegex(row.module, r"\Aleadlight\.[a-z]+\Z")
+
+    def test_no_two_files_import_from_each_other(self):
+        left = {file.stem: imported(tree) for file, tree in zip(FILES, trees())}
+        while left:
+            free = [name for name in left if not left[name] & set(left)]
+            self.assertNotEqual(free, [], f"these import from each other: {sorted(left)}")
+            left = {name: left[name] for name in left if name not in free}
+
+    def test_no_name_stands_for_two_things(self):
+        for tree in trees():
+            self.assertEqual(bound_names(tree) & (fixed_names(tree) | set(dir(builtins))), set())
+            for name in bound_names(tree):
+                self.assertRegex(name, r"\A[A-Za-z]")
+
+    def test_builtins(self):
+        for tree in trees():
+            for row in ast.walk(tree):
+                if isinstance(row, ast.Name) and row.id in dir(builtins):
+                    self.assertIn(row.id, CALLED)
 
     def test_functions(self):
         for tree in trees():
