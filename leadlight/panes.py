@@ -93,3 +93,9 @@ def quarters(plan, pane):
 def size(plan, pane):
     """How many quarters a pane has."""
     return len(quarters(plan, pane))
+
+
+def unlike_panes(plan, found):
+    """The panes whose quarters have not all the same colour; found is what names tells."""
+    glass = plan[3]
+    return sorted({pane for quarter, pane in enumerate(found) if glass[quarter] != glass[pane]})

@@ -227,6 +227,28 @@ class Raster:
             yield (x + right, y + down, OPPOSITE[turn])
 
 
+def with_glass(plan, colours, seed=0):
+    """The plan with one of these colours, or 0 for none, in each pane, always the same."""
+    chance = random.Random(seed)
+    names = Raster(plan).names
+    picked = {pane: colours[int(chance.random() * len(colours))] for pane in sorted(set(names))}
+    return (*plan[:3], tuple(picked[pane] for pane in names))
+
+
+COLOURS = (1, 2, 3, 4, 5, 6, 7, 8, 9)
+
+# With none, so that panes with glass and without lie beside one another.
+SOME_COLOURS = (0, 0, 1, 2, 9)
+
+
+def glassy_plans():
+    """Plans of all kinds with glass in all panes, in some, and with one colour alone."""
+    for seed, plan in enumerate(mixed_plans()):
+        yield with_glass(plan, (COLOURS, SOME_COLOURS, (0, 4))[seed % 3], seed)
+    for seed, plan in enumerate(great_plans()):
+        yield with_glass(plan, (SOME_COLOURS, COLOURS)[seed % 2], seed)
+
+
 def spoil(told):
     """Changes all lists and dicts in something told."""
     if isinstance(told, dict):
