@@ -12,7 +12,7 @@ def all_quarters(width, height):
 def flipped(plan):
     """A plan mirrored, left for right."""
     width, height, within, glass = plan
-    names = [lead(width - x, y, (4 - turn) % 8) for x, y, turn in within]
+    names = [lead(width - x, y, 4 - turn) for x, y, turn in within]
     colours = [
         glass[quarter_at(plan, width - 1 - x, y, (4 - part) % 4)]
         for x, y, part in all_quarters(width, height)
@@ -23,7 +23,7 @@ def flipped(plan):
 def turned(plan):
     """A plan turned to the right by a quarter turn."""
     width, height, within, glass = plan
-    names = [lead(height - y, x, (turn + 2) % 8) for x, y, turn in within]
+    names = [lead(height - y, x, turn + 2) for x, y, turn in within]
     # Looked up from the turned board, whose width is the height that was.
     colours = [
         glass[quarter_at(plan, y, height - 1 - x, (part + 3) % 4)]

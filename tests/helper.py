@@ -19,7 +19,13 @@ MOVES = {
 }
 OPPOSITE = {0: 4, 1: 5, 2: 6, 3: 7, 4: 0, 5: 1, 6: 2, 7: 3}
 
+# All signs that texts have, but for line feeds.
+SIGNS = "".join(chr(sign) for sign in range(32, 127) if chr(sign) != "%")
+
 BAD_TURNS = (-1, -2, -4, -7, -8, -9, 8, 9, 12, 15, 16) + VERY_GREAT
+
+# Numbers that are neither a colour nor a stretch's length.
+BAD_COLOURS = BAD_MANY = (0, -1, -9, 10, 11) + VERY_GREAT
 
 
 def rim_of(width, height):
@@ -247,6 +253,169 @@ def glassy_plans():
         yield with_glass(plan, (COLOURS, SOME_COLOURS, (0, 4))[seed % 3], seed)
     for seed, plan in enumerate(great_plans()):
         yield with_glass(plan, (SOME_COLOURS, COLOURS)[seed % 2], seed)
+
+
+def count_pieces(plan):
+    """How many pieces of lead hang together, by joining the ends of each lead."""
+    joined = {}
+    for x, y, turn in rim_of(plan[0], plan[1]) + list(plan[2]):
+        right, down = MOVES[turn]
+        one = joined.get((x, y), {(x, y)})
+        both = one | joined.get((x + right, y + down), {(x + right, y + down)})
+        for point in both:
+            joined[point] = both
+    return len({min(one) for one in joined.values()})
+
+
+def counts_of(plan):
+    """How many panes and pieces a plan has."""
+    return (len(set(Raster(plan).names)), count_pieces(plan))
+
+
+class Model:
+    """A window kept another way: a row of all that stood, and a place in it."""
+
+    def __init__(self, plan):
+        self.row = [(None, plan, [])]
+        self.at = 0
+
+    def plan(self):
+        return self.row[self.at][1]
+
+    def gone(self):
+        """The pairs (colour, quarters) lost, one behind the other."""
+        return self.row[self.at][2]
+
+    def deeds(self):
+        return [deed for deed, plan, gone in self.row[1:self.at + 1]]
+
+    def lost(self, colour):
+        return sum(many for one, many in self.gone() if one == colour)
+
+    def do(self, deed):
+        """What a deed tells, or the class that refuses it in a list, with its step."""
+        kind, *numbers = deed
+        try:
+            plan, gone, told = getattr(self, kind)(*numbers)
+        except Wrong as wrong:
+            return list(wrong.args)
+        if self.at == 200:
+            return ["Full"]
+        self.row[self.at + 1:] = [(deed, plan, self.gone() + gone)]
+        self.at += 1
+        return told
+
+    def undo(self):
+        if self.at == 0:
+            return ["NothingLeft"]
+        self.at -= 1
+        return self.row[self.at + 1][0]
+
+    def redo(self):
+        if self.at == len(self.row) - 1:
+            return ["NothingLeft"]
+        self.at += 1
+        return self.row[self.at][0]
+
+    def names(self, x, y, turn, many):
+        """The names of a stretch, step by step; ends with None where it leaves the board."""
+        width, height = self.plan()[:2]
+        if x not in range(width + 1) or y not in range(height + 1):
+            raise Wrong("BadPoint")
+        if turn not in range(8):
+            raise Wrong("BadTurn")
+        if many not in range(1, 10):
+            raise Wrong("BadMany")
+        right, down = MOVES[turn]
+        found = []
+        for at in range(many):
+            here = (x + at * right, y + at * down)
+            there = (here[0] + right, here[1] + down)
+            if there[0] not in range(width + 1) or there[1] not in range(height + 1):
+                raise Wrong("Off", at)
+            found.append((*here, turn) if turn < 4 else (*there, OPPOSITE[turn]))
+        return found
+
+    def growth(self, plan):
+        one, other = counts_of(self.plan()), counts_of(plan)
+        return (other[0] - one[0], other[1] - one[1])
+
+    def lay(self, x, y, turn, many):
+        width, height, within, glass = self.plan()
+        names = self.names(x, y, turn, many)
+        cells = {cell_of(name) for name in within} - {None}
+        for at, name in enumerate(names):
+            if name in within or name in rim_of(width, height):
+                raise Wrong("Taken", at)
+            if cell_of(name) in cells:
+                raise Wrong("Crossing", at)
+        plan = (width, height, tuple(sorted((*within, *names))), glass)
+        return plan, [], self.growth(plan)
+
+    def pull(self, x, y, turn, many):
+        width, height, within, glass = self.plan()
+        names = self.names(x, y, turn, many)
+        for at, name in enumerate(names):
+            if name in rim_of(width, height):
+                raise Wrong("Framed", at)
+            if name not in within:
+                raise Wrong("NoLead", at)
+        left = plan_of(width, height, set(within) - set(names))
+        found = Raster(left).names
+        mixed = {pane for pane, colour in zip(found, glass) if colour != glass[pane]}
+        kept = tuple(0 if pane in mixed else colour for pane, colour in zip(found, glass))
+        gone = [(colour, glass.count(colour) - kept.count(colour)) for colour in COLOURS]
+        plan = (*left[:3], kept)
+        return plan, [pair for pair in gone if pair[1]], self.growth(plan)
+
+    def pane(self, quarter):
+        """The quarters of a quarter's pane."""
+        names = Raster(self.plan()).names
+        if quarter not in range(len(names)):
+            raise Wrong("BadQuarter")
+        return [other for other, name in enumerate(names) if name == names[quarter]]
+
+    def glaze(self, quarter, colour):
+        width, height, within, glass = self.plan()
+        pane = self.pane(quarter)
+        if colour not in COLOURS:
+            raise Wrong("BadColour")
+        if glass[quarter]:
+            raise Wrong("Glazed")
+        kept = tuple(colour if one in pane else old for one, old in enumerate(glass))
+        return (width, height, within, kept), [], len(pane)
+
+    def shatter(self, quarter):
+        width, height, within, glass = self.plan()
+        pane = self.pane(quarter)
+        if not glass[quarter]:
+            raise Wrong("NoGlass")
+        kept = tuple(0 if one in pane else old for one, old in enumerate(glass))
+        return (width, height, within, kept), [(glass[quarter], len(pane))], glass[quarter]
+
+
+class Wrong(Exception):
+    """What a Model refuses: a class's name, and the step where it has one."""
+
+
+def some_deeds(width, height, many, seed):
+    """So many deeds, some of which are refused, always the same."""
+    chance = random.Random(seed)
+
+    def pick(low, high):
+        # Now and then something beyond the bounds.
+        if chance.random() < 0.02:
+            return (low - 1, high + 1)[int(chance.random() * 2)]
+        return low + int(chance.random() * (high - low + 1))
+
+    for at in range(many):
+        word = ("lay", "lay", "lay", "pull", "pull", "glaze", "glaze", "shatter")[pick(0, 7) % 8]
+        if word in ("lay", "pull"):
+            length = 1 + int(chance.random() * chance.random() * 4)
+            yield (word, pick(0, width), pick(0, height), pick(0, 7), pick(length, length))
+        else:
+            quarter = pick(0, 4 * width * height - 1)
+            yield (word, quarter, pick(1, 9)) if word == "glaze" else (word, quarter)
 
 
 def spoil(told):

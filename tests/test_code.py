@@ -3,14 +3,12 @@
 import unittest
 
 from helper import (
-    BY_HAND, COLOURS, NESTED, SIZES, Raster, Refusals,
+    BY_HAND, COLOURS, NESTED, SIGNS, SIZES, Raster, Refusals,
     glassy_plans, good_plans, mixed, plan_of, rim_of, with_glass, within_of,
 )
 from leadlight.code import code, read_code
 from leadlight.errors import BadText
 from leadlight.plans import bare, is_plan
-
-SIGNS = "".join(chr(sign) for sign in range(32, 127) if chr(sign) != "%") + "\n"
 
 HALVES = "1x1 20.00 1122"
 
@@ -187,7 +185,7 @@ class BadCodes(Refusals):
     def test_a_sign_put_in(self):
         for text in (HALVES, "2x1 248.000 11223443"):
             for at in range(len(text) + 1):
-                self.looked_at(text[:at] + sign + text[at:] for sign in SIGNS)
+                self.looked_at(text[:at] + sign + text[at:] for sign in SIGNS + "\n")
 
     def test_a_sign_left_out(self):
         for text in (HALVES, "2x1 248.000 11223443", code(with_glass(NESTED, COLOURS))):
@@ -197,7 +195,7 @@ class BadCodes(Refusals):
     def test_a_sign_changed(self):
         for text in (HALVES, "2x1 248.000 11223443", "1x2 00.12.00 00000000"):
             for at in range(len(text)):
-                self.looked_at(text[:at] + sign + text[at + 1:] for sign in SIGNS)
+                self.looked_at(text[:at] + sign + text[at + 1:] for sign in SIGNS + "\n")
         text = code(with_glass(mixed(3, 3, 40, 5), COLOURS, 5))
         for at in range(len(text)):
             self.looked_at(text[:at] + sign + text[at + 1:] for sign in "0123456789abcdef. x")

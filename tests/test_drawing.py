@@ -3,14 +3,12 @@
 import unittest
 
 from helper import (
-    BY_HAND, CROSS, DIAMOND, MOVES, NESTED, SIZES, Refusals,
+    BY_HAND, CROSS, DIAMOND, MOVES, NESTED, SIGNS, SIZES, Refusals,
     glassy_plans, good_plans, plan_of, rim_of, within_of,
 )
 from leadlight.drawing import drawing, read_drawing
 from leadlight.errors import BadText
 from leadlight.plans import bare
-
-SIGNS = "".join(chr(sign) for sign in range(32, 127) if chr(sign) != "%")
 
 
 def rows_by_hand(width, height, within):

@@ -4,8 +4,8 @@ import itertools
 import unittest
 
 from helper import (
-    BAD_TURNS, BY_HAND, COLOURS, DIAMOND, MOVES, NESTED, OPPOSITE, SIZES, SOME_COLOURS,
-    VERY_GREAT, Raster, Refusals,
+    BAD_COLOURS, BAD_MANY, BAD_TURNS, BY_HAND, COLOURS, DIAMOND, MOVES, NESTED, OPPOSITE, SIZES,
+    SOME_COLOURS, VERY_GREAT, Raster, Refusals,
     cell_of, glassy_plans, mixed, not_crossing, plan_of, rim_of, with_glass, within_of,
 )
 from leadlight.errors import (
@@ -14,9 +14,6 @@ from leadlight.errors import (
 )
 from leadlight.glass import glazed, laid, pulled, shattered, stretch, used
 from leadlight.plans import bare, free_leads, is_plan
-
-BAD_MANY = (0, -1, -9, 10, 11) + VERY_GREAT
-BAD_COLOURS = (0, -1, -9, 10, 11) + VERY_GREAT
 
 # Two halves of a cell, and a cell beside them.
 HALVES = plan_of(2, 1, [(0, 0, 1), (1, 0, 2)])

@@ -23,6 +23,17 @@ CALLED = (
     "RuntimeError NotImplementedError"
 ).split()
 
+# L25: the methods of builtin values that may be called, but for those that add to sets.
+METHODS = (
+    "append clear copy count endswith extend find get index insert isalnum isalpha isdigit islower "
+    "isspace isupper items join keys ljust lower lstrip partition pop remove replace reverse rfind "
+    "rjust rpartition rsplit rstrip setdefault split splitlines startswith strip update upper "
+    "values zfill bit_length isdecimal"
+).split()
+
+# L5: the double-underscore methods that the package has.
+DOUBLE = "__init__ __eq__ __len__ __str__ __repr__".split()
+
 AT_TOP = (ast.Expr, ast.ImportFrom, ast.FunctionDef, ast.ClassDef, ast.Assign)
 
 
@@ -50,6 +61,20 @@ def bound_names(tree):
     found = {row.arg for row in ast.walk(tree) if isinstance(row, ast.arg)}
     stored = [row for row in ast.walk(tree) if isinstance(row, ast.Name)]
     return found | {row.id for row in stored if isinstance(row.ctx, ast.Store)}
+
+
+def every(kind):
+    """All parts of this kind in all files."""
+    return [row for tree in trees() for row in ast.walk(tree) if isinstance(row, kind)]
+
+
+def own_methods():
+    rows = [row for kind in every(ast.ClassDef) for row in kind.body]
+    return {row.name for row in rows if isinstance(row, ast.FunctionDef)}
+
+
+def own_attributes():
+    return {row.attr for row in every(ast.Attribute) if isinstance(row.ctx, ast.Store)}
 
 
 class Rules(unittest.TestCase):
@@ -111,6 +136,63 @@ class Rules(unittest.TestCase):
             for row in ast.walk(tree):
                 if isinstance(row, ast.FunctionDef):
                     self.assertLessEqual(row.end_lineno - row.lineno + 1, 40)
+
+    def test_methods_and_attributes(self):
+        methods, attributes = own_methods(), own_attributes()
+        self.assertEqual(methods & attributes, set())
+        for row in every(ast.Attribute):
+            self.assertIn(row.attr, methods | attributes | set(METHODS) | {"add"})
+        for row in every(ast.Call):
+            if isinstance(row.func, ast.Attribute):
+                self.assertNotIn(row.func.attr, attributes)
+
+    def test_double_underscores(self):
+        for row in every(ast.FunctionDef):
+            if row.name.startswith("_"):
+                self.assertIn(row.name, DOUBLE)
+        for row in every(ast.Attribute):
+            if row.attr.startswith("_"):
+                self.assertEqual(row.attr, "__init__")
+
+    def test_only_own_errors_are_caught_and_each_by_a_name_of_its_own(self):
+        own = {row.name for row in every(ast.ClassDef)}
+        for row in every(ast.Try):
+            self.assertEqual(row.finalbody, [])
+            names = [handler.name for handler in row.handlers if handler.name]
+            self.assertEqual(len(names), len(set(names)))
+            for handler in row.handlers:
+                for one in ast.walk(handler.type):
+                    if isinstance(one, ast.Name):
+                        self.assertIn(one.id, own)
+
+    def test_errors_are_made_where_they_are_raised(self):
+        for row in every(ast.Raise):
+            self.assertIsInstance(row.exc, ast.Call)
+            self.assertEqual(row.exc.keywords, [])
+
+    def test_statements_and_signs_that_are_not_used(self):
+        barred = (
+            ast.Global, ast.AsyncFunctionDef, ast.Await, ast.Div, ast.Yield, ast.YieldFrom,
+            ast.Delete, ast.Match, ast.With, ast.Lambda, ast.GeneratorExp,
+        )
+        self.assertEqual(every(barred), [])
+        for row in every(ast.Constant):
+            self.assertNotIsInstance(row.value, float)
+            if isinstance(row.value, str):
+                self.assertNotIn("%", row.value)
+
+    def test_is_stands_beside_none_and_truths_alone(self):
+        for row in every(ast.Compare):
+            for sign, beside in zip(row.ops, row.comparators):
+                if isinstance(sign, (ast.Is, ast.IsNot)):
+                    self.assertIsInstance(beside, ast.Constant)
+
+    def test_what_double_underscore_methods_return(self):
+        for row in every(ast.FunctionDef):
+            if row.name in ("__str__", "__repr__"):
+                self.assertIsInstance(row.body[-1].value, ast.JoinedStr)
+            if row.name == "__len__":
+                self.assertEqual(row.body[-1].value.func.id, "len")
 
 
 if __name__ == "__main__":
